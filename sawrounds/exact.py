@@ -1,0 +1,45 @@
+"""Fractions of any size, without checks: for what was checked already.
+
+What is worked out on the way may be greater than what may be handed in, so
+the other files reckon with these functions and not with the checked ones.
+"""
+
+from math import gcd
+
+
+def reduced(above, below):
+    """above over below in lowest terms; below is not 0."""
+    divisor = gcd(above, below)
+    if below < 0:
+        divisor = -divisor
+    return (above // divisor, below // divisor)
+
+
+def sum_of(one, other):
+    """one and other together."""
+    return reduced(one[0] * other[1] + other[0] * one[1], one[1] * other[1])
+
+
+def difference_of(one, other):
+    """one less other."""
+    return reduced(one[0] * other[1] - other[0] * one[1], one[1] * other[1])
+
+
+def product_of(one, other):
+    """one times other."""
+    return reduced(one[0] * other[0], one[1] * other[1])
+
+
+def quotient_of(one, other):
+    """one divided by other, which is not nought."""
+    return reduced(one[0] * other[1], one[1] * other[0])
+
+
+def negative_of(one):
+    """one with the other sign."""
+    return (-one[0], one[1])
+
+
+def is_less(one, other):
+    """Whether one is less than other, as numbers."""
+    return one[0] * other[1] < other[0] * one[1]

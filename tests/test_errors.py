@@ -1,0 +1,116 @@
+"""Promise 1: the errors, the names and the files of the interface."""
+
+import inspect
+import unittest
+
+from sawrounds import errors, fractions, settings
+from tests.support import Odd
+
+ATTRIBUTES = {
+    "BadSetting": ["place"],
+    "BadRounds": ["place"],
+    "BadSenders": ["place"],
+    "BadText": ["line", "word"],
+    "BadDeed": ["place"],
+    "BadParameter": ["value"],
+    "NoHeight": ["paper"],
+    "NoRow": [],
+    "NoMean": [],
+    "TooGreat": ["most"],
+}
+
+FUNCTIONS = {
+    fractions: {
+        "fraction": ["above", "below"],
+        "need_fraction": ["value"],
+        "plus": ["one", "other"],
+        "minus": ["one", "other"],
+        "times": ["one", "other"],
+        "over": ["one", "other"],
+        "less": ["one", "other"],
+        "floor_of": ["one"],
+        "ceil_of": ["one"],
+        "power_of": ["one", "number"],
+    },
+    settings: {
+        "need_setting": ["setting"],
+        "height_of": ["setting"],
+        "setting_of": ["part", "height"],
+        "spot_level": ["setting", "spot"],
+        "level_spot": ["setting", "level"],
+        "moved": ["setting", "by"],
+        "scaled": ["setting", "by"],
+        "alike": ["setting", "other"],
+    },
+}
+
+
+class Errors(unittest.TestCase):
+    def test_saw_error_is_beneath_value_error(self):
+        self.assertEqual(errors.SawError.__bases__, (ValueError,))
+        self.assertEqual(errors.SawError.__module__, "sawrounds.errors")
+
+    def test_each_error_is_directly_beneath_saw_error(self):
+        for name in ATTRIBUTES:
+            with self.subTest(name=name):
+                kind = getattr(errors, name)
+                self.assertEqual(kind.__bases__, (errors.SawError,))
+                self.assertEqual(kind.__module__, "sawrounds.errors")
+                self.assertEqual(kind.__name__, name)
+
+    def test_arguments_are_attributes_by_position(self):
+        for name, attributes in ATTRIBUTES.items():
+            for told in [(), 7, None, (0, 1), 10 ** 5000, Odd()]:
+                with self.subTest(name=name):
+                    given = [(told, attribute) for attribute in attributes]
+                    error = getattr(errors, name)(*given)
+                    for thing, attribute in zip(given, attributes):
+                        self.assertIs(getattr(error, attribute), thing)
+
+    def test_arguments_are_attributes_by_name(self):
+        for name, attributes in ATTRIBUTES.items():
+            with self.subTest(name=name):
+                given = {attribute: [attribute] for attribute in attributes}
+                error = getattr(errors, name)(**given)
+                for attribute in attributes:
+                    self.assertIs(getattr(error, attribute), given[attribute])
+
+    def test_arguments_are_as_many_as_told(self):
+        for name, attributes in ATTRIBUTES.items():
+            with self.subTest(name=name):
+                with self.assertRaises(TypeError):
+                    getattr(errors, name)(*attributes, 1)
+                if attributes:
+                    with self.assertRaises(TypeError):
+                        getattr(errors, name)(*attributes[1:])
+
+    def test_errors_are_caught_by_their_common_names(self):
+        for kind in (errors.SawError, ValueError):
+            with self.assertRaises(kind):
+                raise errors.TooGreat(300)
+            with self.assertRaises(kind):
+                raise errors.NoRow()
+
+    def test_an_error_of_anything_can_be_written(self):
+        for told in [10 ** 5000, Odd()]:
+            self.assertIsInstance(str(errors.BadParameter(told)), str)
+            self.assertIsInstance(repr(errors.BadParameter(told)), str)
+
+
+class Interface(unittest.TestCase):
+    def test_functions_stand_in_their_files_with_their_parameters(self):
+        for module, functions in FUNCTIONS.items():
+            for name, parameters in functions.items():
+                with self.subTest(name=name):
+                    function = getattr(module, name)
+                    self.assertTrue(inspect.isfunction(function))
+                    self.assertEqual(function.__module__, module.__name__)
+                    told = inspect.signature(function).parameters.values()
+                    self.assertEqual([one.name for one in told], parameters)
+                    for one in told:
+                        self.assertEqual(one.kind, one.POSITIONAL_OR_KEYWORD)
+                        self.assertIs(one.default, one.empty)
+
+
+if __name__ == "__main__":
+    unittest.main()
