@@ -43,3 +43,33 @@ def negative_of(one):
 def is_less(one, other):
     """Whether one is less than other, as numbers."""
     return one[0] * other[1] < other[0] * one[1]
+
+
+def floor_down(one):
+    """The greatest integer that is at most one."""
+    return one[0] // one[1]
+
+
+def ceil_up(one):
+    """The least integer that is at least one."""
+    return -(-one[0] // one[1])
+
+
+def power(base, number):
+    """The product of so many factors, each the integer base."""
+    result = 1
+    square = base
+    while number > 0:
+        if number & 1 == 1:
+            result = result * square
+        number = number >> 1
+        # The last square is not needed, and it is the greatest one.
+        if number > 0:
+            square = square * square
+    return result
+
+
+def fraction_power(one, number):
+    """The product of so many factors, each the fraction one."""
+    # Powers of numbers without a common divisor have none either.
+    return (power(one[0], number), power(one[1], number))

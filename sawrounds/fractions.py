@@ -3,7 +3,9 @@
 from math import gcd
 
 from sawrounds.errors import BadParameter
-from sawrounds.exact import difference_of, is_less, product_of, quotient_of, reduced, sum_of
+from sawrounds.exact import (
+    ceil_up, difference_of, floor_down, fraction_power, is_less, product_of, quotient_of, reduced, sum_of,
+)
 
 MOST = 10 ** 30
 MOST_FACTORS = 1000
@@ -23,6 +25,22 @@ def is_fraction(value):
         return False
     # The sizes come first, so that no divisor of huge numbers is looked for.
     return -MOST <= above <= MOST and 1 <= below <= MOST and gcd(above, below) == 1
+
+
+def is_same(value, wanted):
+    """Whether value, of any kind, is just wanted: an integer or a tuple of such."""
+    if is_integer(wanted):
+        return is_integer(value) and value == wanted
+    if type(value) != tuple or len(value) != len(wanted):
+        return False
+    return all([is_same(one, other) for one, other in zip(value, wanted)])
+
+
+def need_number(value, least, most):
+    """value, if it is an integer from least to most."""
+    if not is_integer(value) or not least <= value <= most:
+        raise BadParameter(value)
+    return value
 
 
 def fraction(above, below):
@@ -81,24 +99,17 @@ def less(one, other):
 def floor_of(one):
     """The greatest integer that is at most the FRACTION one."""
     need_fraction(one)
-    return one[0] // one[1]
+    return floor_down(one)
 
 
 def ceil_of(one):
     """The least integer that is at least the FRACTION one."""
     need_fraction(one)
-    return -(-one[0] // one[1])
+    return ceil_up(one)
 
 
 def power_of(one, number):
     """The product of so many factors, each the FRACTION one."""
     need_fraction(one)
-    if not is_integer(number) or not 0 <= number <= MOST_FACTORS:
-        raise BadParameter(number)
-    above = 1
-    below = 1
-    # Powers of numbers without a common divisor have none either.
-    for _ in range(number):
-        above = above * one[0]
-        below = below * one[1]
-    return (above, below)
+    need_number(number, 0, MOST_FACTORS)
+    return fraction_power(one, number)

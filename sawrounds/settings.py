@@ -59,6 +59,14 @@ def need_setting(setting):
     return setting
 
 
+def need_start(setting, start):
+    """start, if it is a START of setting, which is checked ahead of it."""
+    limit = need_setting(setting)[0]
+    if not is_fraction(start) or is_less(limit, start):
+        raise BadParameter(start)
+    return start
+
+
 def height_of(setting):
     """The HEIGHT of a SETTING."""
     limit, step, part, keep = need_setting(setting)

@@ -1,9 +1,10 @@
 """What several test files need: things of wrong kinds, and exact comparing."""
 
+import math
 from fractions import Fraction
 from unittest.mock import Mock
 
-from sawrounds.errors import BadParameter, BadSetting
+from sawrounds.errors import BadParameter, BadRounds, BadSetting, TooGreat
 
 MOST = 10 ** 30
 
@@ -35,6 +36,39 @@ NO_FRACTIONS = NO_INTEGERS + [
     (MOST + 1, 1), (-MOST - 1, 1), (1, MOST + 1), (-1, MOST + 1), (10 ** 5000, 1), (1, 10 ** 5000), (0, MOST + 1),
     Mock(spec=tuple), tuple,
 ]
+
+# The two settings of the document's example.
+FIRST = ((10, 1), (1, 1), (1, 2), (0, 1))
+SECOND = ((10, 1), (3, 2), (1, 2), (0, 1))
+
+NO_SETTINGS = [
+    None, True, 0, 4, 1.5, "", "abcd", b"abcd", [], list(FIRST), {}, dict(enumerate(FIRST)), set(FIRST),
+    (), FIRST[:1], FIRST[:2], FIRST[:3], FIRST + ((0, 1),), (FIRST,), (FIRST, (0, 1)), object(), Odd(),
+    Mock(spec=tuple),
+]
+NO_STEPS = NO_FRACTIONS + [(0, 1), (-1, 1), (-1, MOST), (-MOST, 1)]
+NO_PARTS = NO_FRACTIONS + [
+    (0, 1), (1, 1), (-1, 2), (3, 2), (2, 1), (-1, 1), (1, 1001), (500, 1001), (1000, 1001), (1001, 1000),
+    (1, 1002), (-999, 1000), (1, MOST), (MOST - 1, MOST), (MOST, 1),
+]
+NO_SPOTS = NO_FRACTIONS + [(0, 1), (-1, 1), (-1, 2), (2, 1), (3, 2), (MOST, MOST - 1), (-1, MOST), (MOST, 1)]
+
+# No HEIGHTs at the PART (1, 2).
+NO_HEIGHTS = NO_FRACTIONS + [
+    (0, 1), (-1, 1), (-1, 2), (1, 3), (499, 1000), (MOST // 2 - 1, MOST - 1), (-MOST, 1), (1, MOST),
+]
+# No STARTs of FIRST and SECOND, the LIMIT of which is 10.
+NO_STARTS = NO_FRACTIONS + [(11, 1), (21, 2), (10 ** 29 + 1, 10 ** 28), (MOST, 1), (MOST, MOST - 1 - 9 * MOST // 10)]
+NO_MEANS = NO_FRACTIONS + [
+    (0, 1), (-1, 1), (1, 2), (2, 3), (299, 300), (-7, 2), (MOST, MOST - 1), (302, 301), (603, 301), (10 ** 29, 301),
+    (1, 301), (1000, 999), (MOST + 1, 300), (MOST + 3, 2),
+]
+
+
+def no_numbers(least, most):
+    """What is no integer from least to most."""
+    return NO_INTEGERS + [least - 1, most + 1, -MOST, MOST * MOST, -(10 ** 5000), 10 ** 5000, (least,), [most]]
+
 
 # FRACTIONs up to the greatest ones that may be handed in.
 FRACTIONS = [
@@ -72,15 +106,145 @@ def check(case, got, wanted):
 
 def check_refused(case, value, function, /, *told, **named):
     """Fails unless BadParameter is raised with just this value."""
-    with case.assertRaises(ValueError) as held:
-        function(*told, **named)
-    case.assertIs(type(held.exception), BadParameter)
-    case.assertIs(held.exception.value, value)
+    check_error(case, BadParameter, value, function, *told, **named)
 
 
 def check_bad_setting(case, place, function, /, *told, **named):
     """Fails unless BadSetting is raised with just this place."""
+    check_error(case, BadSetting, place, function, *told, **named)
+
+
+def refused(wrongs):
+    """The wrong values, each with the error that it is refused with."""
+    return [(wrong, BadParameter, wrong) for wrong in wrongs]
+
+
+def wrong_settings():
+    """Wrong settings, each with the error that it is refused with."""
+    found = [(wrong, BadSetting, ()) for wrong in NO_SETTINGS]
+    for place, wrongs in enumerate([NO_FRACTIONS, NO_STEPS, NO_PARTS, NO_FRACTIONS]):
+        for wrong in wrongs:
+            found.append((FIRST[:place] + (wrong,) + FIRST[place + 1:], BadSetting, (place,)))
+            found.append((FIRST[:place] + (wrong,) * (4 - place), BadSetting, (place,)))
+    found.append((FIRST[:3] + ((5, 1),), BadSetting, ()))
+    found.append((((10, 1), (11, 1), (1, 2), (0, 1)), BadSetting, ()))
+    return found
+
+
+def wrong_rounds():
+    """Wrong ROUNDS, each with the error that it is refused with."""
+    wholes = [
+        None, True, 0, 3, 1.5, "", "34", b"34", [], [3, 4], {}, {3: 4}, {3, 4}, range(3), iter(()), object(), Odd(),
+        (3,) * 301, (3,) * 1000, (None,) * 301, Mock(spec=tuple), tuple,
+    ]
+    found = [(wrong, BadRounds, ()) for wrong in wholes]
+    for wrong in NO_INTEGERS + [0, -1, -3, MOST + 1, 10 ** 5000, -MOST, (3,), ()]:
+        found.append(((wrong,), BadRounds, (0,)))
+        found.append(((3, wrong, 4), BadRounds, (1,)))
+        found.append(((3, 4, 4, wrong, None), BadRounds, (3,)))
+        found.append(((3,) * 299 + (wrong,), BadRounds, (299,)))
+    return found
+
+
+ATTRIBUTES = {BadParameter: "value", BadSetting: "place", BadRounds: "place", TooGreat: "most"}
+
+
+def check_error(case, kind, told, function, /, *given, **named):
+    """Fails unless just this error is raised, with just this attribute."""
     with case.assertRaises(ValueError) as held:
-        function(*told, **named)
-    case.assertIs(type(held.exception), BadSetting)
-    check(case, held.exception.place, place)
+        function(*given, **named)
+    case.assertIs(type(held.exception), kind)
+    value = getattr(held.exception, ATTRIBUTES[kind])
+    if kind is BadParameter:
+        case.assertIs(value, told)
+    else:
+        check(case, value, told)
+
+
+def check_too_great(case, most, function, /, *given, **named):
+    """Fails unless TooGreat is raised with just this number."""
+    check_error(case, TooGreat, most, function, *given, **named)
+
+
+def check_refusals(case, function, rights, wrongs, works=True):
+    """Fails unless each parameter is checked, and ahead of all behind it.
+
+    rights are parameters by their names, in order, that are let together;
+    wrongs the rows of what is refused for each of these names.
+    """
+    if works:
+        case.assertEqual(function(**rights), function(*rights.values()))
+    names = list(rights)
+    for at, name in enumerate(names):
+        for wrong, kind, told in wrongs[name]:
+            given = [rights[other] for other in names]
+            given[at] = wrong
+            check_error(case, kind, told, function, *given)
+            check_error(case, kind, told, function, **dict(zip(reversed(names), reversed(given))))
+            for other in (None, True, (2, 4)):
+                given[at + 1:] = [other] * (len(names) - at - 1)
+                check_error(case, kind, told, function, *given)
+
+
+def plain_ticks(setting, start, ticks):
+    """The pairs (level, whether it was cut) behind each tick, plainly."""
+    limit, step, part, keep = map(number, setting)
+    level = number(start)
+    found = []
+    for _ in range(ticks):
+        level = level + step
+        is_cut = level > limit
+        if is_cut:
+            level = part * level + keep
+        found.append((level, is_cut))
+    return found
+
+
+def plain_rounds(part, height, spot, count):
+    """The rounds behind a spot, and all spots from the first one on, plainly."""
+    spots = [number(spot)]
+    rounds = []
+    for _ in range(count):
+        rest = number(part) * spots[-1] - number(height)
+        ticks = 0 if rest > 0 else math.floor(-rest) + 1
+        if not 0 < rest + ticks <= 1:
+            raise AssertionError("the rule was misread")
+        rounds.append(ticks)
+        spots.append(rest + ticks)
+    return tuple(rounds), spots
+
+
+def plain_rhythm(mean):
+    """The rhythm of a mean by the words of its promise."""
+    told = number(mean)
+    return tuple(math.ceil((at + 1) * told) - math.ceil(at * told) for at in range(mean[1]))
+
+
+def turned(things, phase, count):
+    """So many things of a rhythm without end, from the phase on."""
+    return tuple(things[(phase + at) % len(things)] for at in range(count))
+
+
+def plain_ends(part, mean):
+    """Both ends of a stretch by the floor sum, this by one period of it."""
+    x = number(part)
+    p, q = mean
+    period = sum(x ** (at - 1) * (at * p // q) for at in range(1, q + 1))
+    floors = (period + x ** q * p / (1 - x)) / (1 - x ** q)
+    high = (1 - x) ** 2 * floors
+    return high - (1 - x) ** 2 * x ** (q - 1) / (1 - x ** q), high
+
+
+def simplest(low, high):
+    """The fraction from low to high that has the least divisor."""
+    whole = math.ceil(low)
+    if whole <= high:
+        return Fraction(whole)
+    rest = simplest(1 / (high - whole + 1), 1 / (low - whole + 1))
+    return whole - 1 + 1 / rest
+
+
+def means_up_to(most, least=1, greatest=2):
+    """All fractions from least to greatest with Q up to most, ascending."""
+    found = {Fraction(p, q) for q in range(1, most + 1) for p in range(least * q, greatest * q + 1)}
+    return [(one.numerator, one.denominator) for one in sorted(found)]

@@ -3,7 +3,7 @@
 import inspect
 import unittest
 
-from sawrounds import errors, fractions, settings
+from sawrounds import errors, fractions, rhythms, settings, spots, stretches, ticks
 from tests.support import Odd
 
 ATTRIBUTES = {
@@ -41,6 +41,45 @@ FUNCTIONS = {
         "moved": ["setting", "by"],
         "scaled": ["setting", "by"],
         "alike": ["setting", "other"],
+    },
+    ticks: {
+        "tick": ["setting", "level"],
+        "levels_after": ["setting", "start", "ticks"],
+        "first_ticks": ["setting", "start"],
+        "rounds_after": ["setting", "start", "count"],
+        "cuts_plainly": ["setting", "start", "ticks"],
+        "highest_behind": ["setting", "start", "ticks"],
+        "lowest_behind": ["setting", "start", "ticks"],
+    },
+    spots: {
+        "need_spot": ["spot"],
+        "next_spot": ["part", "height", "spot"],
+        "spots_after": ["part", "height", "spot", "count"],
+        "counts_after": ["part", "height", "spot", "count"],
+        "later": ["part", "height", "spot", "other", "count"],
+    },
+    stretches: {
+        "floor_sum": ["part", "mean"],
+        "stretch_of": ["part", "mean"],
+        "low_end": ["part", "mean"],
+        "high_end": ["part", "mean"],
+        "stretch_length": ["part", "mean"],
+        "is_in": ["part", "mean", "height"],
+        "covered": ["part", "most"],
+        "means_order": ["part", "mean", "height"],
+    },
+    rhythms: {
+        "need_mean": ["mean"],
+        "need_rounds": ["rounds"],
+        "rhythm_of": ["mean"],
+        "sum_from": ["mean", "phase", "count"],
+        "phases_in_order": ["mean"],
+        "unbalance": ["rounds"],
+        "is_balanced": ["rounds"],
+        "told_rhythm": ["rounds"],
+        "windows_of": ["mean", "length"],
+        "backwards_phase": ["mean"],
+        "parents_of": ["mean"],
     },
 }
 

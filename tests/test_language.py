@@ -12,7 +12,7 @@ BUILTINS = {
     "ValueError", "KeyError", "IndexError", "True", "False", "None",
 }
 
-LIBRARY = {("math", "gcd")}
+LIBRARY = {("math", "gcd"), ("math", "lcm")}
 
 
 def files():
@@ -85,6 +85,48 @@ class Language(unittest.TestCase):
                 if isinstance(node, ast.Name) and isinstance(node.ctx, ast.Load):
                     with self.subTest(name=name, line=node.lineno):
                         self.assertIn(node.id, bound | BUILTINS)
+
+    def test_no_name_of_an_import_is_given_another_meaning(self):
+        for name, _, tree in files():
+            imported = {alias.name for node in tree.body if isinstance(node, ast.ImportFrom) for alias in node.names}
+            defined = [node.name for node in tree.body if isinstance(node, (ast.FunctionDef, ast.ClassDef))]
+            self.assertEqual(len(defined), len(set(defined)))
+            for node in ast.walk(tree):
+                with self.subTest(name=name, line=getattr(node, "lineno", None)):
+                    if isinstance(node, ast.FunctionDef):
+                        self.assertNotIn(node.name, imported)
+                    elif isinstance(node, ast.arg):
+                        self.assertNotIn(node.arg, imported | set(defined))
+                    elif isinstance(node, ast.Name) and isinstance(node.ctx, ast.Store):
+                        self.assertNotIn(node.id, imported | set(defined))
+
+    def test_each_import_is_of_the_file_that_defines_it(self):
+        defined = {}
+        for name, _, tree in files():
+            for node in tree.body:
+                if isinstance(node, (ast.FunctionDef, ast.ClassDef)):
+                    defined[name[:-3], node.name] = node
+                elif isinstance(node, ast.Assign):
+                    defined[name[:-3], node.targets[0].id] = node
+        for name, _, tree in files():
+            for node in tree.body:
+                if isinstance(node, ast.ImportFrom) and node.module != "math":
+                    for alias in node.names:
+                        with self.subTest(name=name, alias=alias.name):
+                            self.assertIn((node.module.partition(".")[2], alias.name), defined)
+
+    def test_signs(self):
+        for name, _, tree in files():
+            for node in ast.walk(tree):
+                with self.subTest(name=name, line=getattr(node, "lineno", None)):
+                    if isinstance(node, ast.BinOp) and isinstance(node.op, ast.Pow):
+                        self.assertIsInstance(node.right, ast.Constant)
+                        self.assertIn(node.right.value, range(65))
+                    elif isinstance(node, ast.Compare) and isinstance(node.ops[0], (ast.Is, ast.IsNot)):
+                        self.assertIsInstance(node.comparators[0], ast.Constant)
+                        self.assertIn(node.comparators[0].value, (None, True, False))
+                    elif isinstance(node, ast.Name) and node.id == "_":
+                        self.assertIsInstance(node.ctx, ast.Store)
 
     def test_module_level(self):
         for name, _, tree in files():

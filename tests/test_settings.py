@@ -2,18 +2,15 @@
 
 import unittest
 from fractions import Fraction
-from unittest.mock import Mock
 
 from sawrounds.fractions import need_fraction
 from sawrounds.settings import (
     alike, height_of, level_spot, moved, need_setting, scaled, setting_of, spot_level,
 )
 from tests.support import (
-    MOST, NO_FRACTIONS, Odd, check, check_bad_setting, check_refused, number, pair,
+    FIRST, MOST, NO_FRACTIONS, NO_PARTS, NO_SETTINGS, NO_SPOTS, NO_STEPS, SECOND, Odd, check,
+    check_bad_setting, check_refused, number, pair,
 )
-
-FIRST = ((10, 1), (1, 1), (1, 2), (0, 1))
-SECOND = ((10, 1), (3, 2), (1, 2), (0, 1))
 
 LIMITS = [(10, 1), (0, 1), (-7, 3), (22, 7), (-MOST, 1), (1, MOST)]
 STEPS = [(1, 1), (3, 2), (1, 1000), (7, 1), (1, 10 ** 9)]
@@ -41,18 +38,6 @@ def settings_told():
 
 
 TOLD = settings_told()
-
-NO_SETTINGS = [
-    None, True, 0, 4, 1.5, "", "abcd", b"abcd", [], list(FIRST), {}, dict(enumerate(FIRST)), set(FIRST),
-    (), FIRST[:1], FIRST[:2], FIRST[:3], FIRST + ((0, 1),), (FIRST,), (FIRST, (0, 1)), object(), Odd(),
-    Mock(spec=tuple),
-]
-NO_STEPS = NO_FRACTIONS + [(0, 1), (-1, 1), (-1, MOST), (-MOST, 1)]
-NO_PARTS = NO_FRACTIONS + [
-    (0, 1), (1, 1), (-1, 2), (3, 2), (2, 1), (-1, 1), (1, 1001), (500, 1001), (1000, 1001), (1001, 1000),
-    (1, 1002), (-999, 1000), (1, MOST), (MOST - 1, MOST), (MOST, 1),
-]
-NO_SPOTS = NO_FRACTIONS + [(0, 1), (-1, 1), (-1, 2), (2, 1), (3, 2), (MOST, MOST - 1), (-1, MOST), (MOST, 1)]
 
 
 class Needed(unittest.TestCase):

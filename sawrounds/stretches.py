@@ -1,0 +1,139 @@
+"""Stretches: the HEIGHTs that have one and the same MEAN, both ends in them."""
+
+from math import gcd
+
+from sawrounds.exact import is_less, power, reduced
+from sawrounds.fractions import need_number
+from sawrounds.rhythms import MOST_BELOW_OF_MEAN, need_mean, things_of
+from sawrounds.settings import need_height, need_part
+
+
+def rhythm_sum(part, mean):
+    """The rhythm's things added up, each by its own powers of PART's integers.
+
+    With PART being a / b and the things K_0, .., K_(Q - 1) it is the sum of
+    a ** (Q - 1 - J) * b ** J * K_J; the floors of promise 19 differ one by one
+    by the things told backwards, so that no sum without end is needed.
+    """
+    above, below = part
+    total = 0
+    weight = 1
+    for ticks in things_of(mean):
+        total = total * above + ticks * weight
+        weight = weight * below
+    return total
+
+
+def powers_apart(part, number):
+    """The power of PART's D, less that of its N."""
+    return power(part[1], number) - power(part[0], number)
+
+
+def high_of(part, mean):
+    """The high end of the mean's stretch, not in lowest terms."""
+    rest = part[1] - part[0]
+    return (rest * rhythm_sum(part, mean), powers_apart(part, mean[1]))
+
+
+def length_of(part, below):
+    """The length of the stretch of each mean with this Q, not in lowest terms."""
+    rest = part[1] - part[0]
+    return (rest * rest * power(part[0], below - 1), part[1] * powers_apart(part, below))
+
+
+def lengths_of(part, below):
+    """The lengths of all stretches with this Q of means above 1 and up to 2, together."""
+    many = len([above for above in range(1, below + 1) if gcd(above, below) == 1])
+    length = length_of(part, below)
+    return (many * length[0], length[1])
+
+
+def total_of(numbers):
+    """The sum of a list of fractions, neither they nor it in lowest terms.
+
+    By halves, as a sum one by one would be a great number from early on.
+    """
+    if len(numbers) == 1:
+        return numbers[0]
+    half = len(numbers) // 2
+    one = total_of(numbers[:half])
+    other = total_of(numbers[half:])
+    return (one[0] * other[1] + other[0] * one[1], one[1] * other[1])
+
+
+def ends_of(part, mean):
+    """Both ends of the mean's stretch, not in lowest terms."""
+    high = high_of(part, mean)
+    length = length_of(part, mean[1])
+    # The divisor of the length is PART's D times that of the high end.
+    return ((part[1] * high[0] - length[0], length[1]), high)
+
+
+def order_of(part, mean, height):
+    """-1, 0, 1 as the height is below, in or above the stretch of the mean."""
+    low, high = ends_of(part, mean)
+    if is_less(height, low):
+        return -1
+    if is_less(high, height):
+        return 1
+    return 0
+
+
+def need_part_and_mean(part, mean):
+    """Checks a PART and a MEAN, in this order."""
+    need_part(part)
+    need_mean(mean)
+
+
+def floor_sum(part, mean):
+    """The sum of PART ** (M - 1) times floor(M * P / Q) over M = 1, 2, .."""
+    need_part_and_mean(part, mean)
+    rest = part[1] - part[0]
+    above = part[1] * part[1] * rhythm_sum(part, mean)
+    return reduced(above, rest * powers_apart(part, mean[1]))
+
+
+def stretch_of(part, mean):
+    """Both ends of the stretch of a MEAN."""
+    return (low_end(part, mean), high_end(part, mean))
+
+
+def low_end(part, mean):
+    """The least HEIGHT of the stretch of a MEAN."""
+    need_part_and_mean(part, mean)
+    low, _ = ends_of(part, mean)
+    return reduced(low[0], low[1])
+
+
+def high_end(part, mean):
+    """The greatest HEIGHT of the stretch of a MEAN."""
+    need_part_and_mean(part, mean)
+    high = high_of(part, mean)
+    return reduced(high[0], high[1])
+
+
+def stretch_length(part, mean):
+    """The high end less the low end of the stretch of a MEAN."""
+    need_part_and_mean(part, mean)
+    length = length_of(part, mean[1])
+    return reduced(length[0], length[1])
+
+
+def is_in(part, mean, height):
+    """Whether the HEIGHT is in the stretch of the MEAN, both ends in it."""
+    return means_order(part, mean, height) == 0
+
+
+def covered(part, most):
+    """The sum of the lengths of all stretches of MEANs above 1 and up to 2, Q up to most."""
+    need_part(part)
+    need_number(most, 1, MOST_BELOW_OF_MEAN)
+    total = total_of([lengths_of(part, below) for below in range(1, most + 1)])
+    return reduced(total[0], total[1])
+
+
+def means_order(part, mean, height):
+    """-1, 0, 1 as the HEIGHT is below, in or above the stretch of the MEAN."""
+    need_part_and_mean(part, mean)
+    need_height(part, height)
+    return order_of(part, mean, height)
