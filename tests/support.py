@@ -1,5 +1,6 @@
 """What several test files need: things of wrong kinds, and exact comparing."""
 
+import functools
 import math
 from fractions import Fraction
 from unittest.mock import Mock
@@ -222,9 +223,10 @@ def plain_rhythm(mean):
 
 def turned(things, phase, count):
     """So many things of a rhythm without end, from the phase on."""
-    return tuple(things[(phase + at) % len(things)] for at in range(count))
+    return (things * (count // len(things) + 2))[phase:phase + count]
 
 
+@functools.lru_cache(maxsize=None)
 def plain_ends(part, mean):
     """Both ends of a stretch by the floor sum, this by one period of it."""
     x = number(part)
@@ -248,3 +250,18 @@ def means_up_to(most, least=1, greatest=2):
     """All fractions from least to greatest with Q up to most, ascending."""
     found = {Fraction(p, q) for q in range(1, most + 1) for p in range(least * q, greatest * q + 1)}
     return [(one.numerator, one.denominator) for one in sorted(found)]
+
+
+def height_for(part, mean):
+    """The simplest HEIGHT that has the mean, whatever the mean's Q is."""
+    return pair(simplest(*plain_ends(part, mean)))
+
+
+# Parts and heights whose means have a Q above 300.
+TOO_GREAT = [
+    (part, height_for(part, mean))
+    for part, mean in [
+        ((9, 10), (302, 301)), ((9, 10), (601, 301)), ((9, 10), (1000, 301)), ((9, 10), (777, 302)),
+        ((99, 100), (1001, 500)), ((999, 1000), (1301, 601)), ((999, 1000), (10 ** 9 + 1, 400)),
+    ]
+]

@@ -3,7 +3,7 @@
 import inspect
 import unittest
 
-from sawrounds import errors, fractions, rhythms, settings, spots, stretches, ticks
+from sawrounds import errors, far, fractions, means, points, rhythms, settings, spots, stretches, ticks
 from tests.support import Odd
 
 ATTRIBUTES = {
@@ -80,6 +80,30 @@ FUNCTIONS = {
         "windows_of": ["mean", "length"],
         "backwards_phase": ["mean"],
         "parents_of": ["mean"],
+    },
+    means: {
+        "mean_of": ["part", "height"],
+        "mean_of_setting": ["setting"],
+        "is_mean": ["part", "height", "value"],
+        "mean_after": ["part", "height", "steps"],
+    },
+    points: {
+        "points_of": ["part", "height"],
+        "is_points": ["part", "height", "value"],
+        "arcs_of": ["part", "height"],
+        "is_arcs": ["part", "height", "value"],
+        "phase_of": ["part", "height", "spot"],
+        "start_phase": ["setting", "start"],
+        "starts_of": ["setting", "phase", "below"],
+    },
+    far: {
+        "ticks_of_cut": ["setting", "start", "number"],
+        "cuts_within": ["setting", "start", "ticks"],
+        "round_at": ["setting", "start", "number"],
+        "spot_after": ["part", "height", "spot", "rounds"],
+        "near_after": ["part", "height", "spot", "accuracy"],
+        "together": ["setting", "start", "other"],
+        "tick_gap": ["setting", "start", "other"],
     },
 }
 
