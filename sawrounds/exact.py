@@ -73,3 +73,33 @@ def fraction_power(one, number):
     """The product of so many factors, each the fraction one."""
     # Powers of numbers without a common divisor have none either.
     return (power(one[0], number), power(one[1], number))
+
+
+def least_power(part, share):
+    """The least number N such that PART ** N is at most share, which is below 1."""
+    squares = [part]
+    while is_less(share, squares[-1]):
+        squares.append(fraction_power(squares[-1], 2))
+    # The greatest number with a greater power, its binary digits one by one.
+    number = 0
+    above = (1, 1)
+    for square in reversed(squares[:-1]):
+        number = 2 * number
+        trial = (above[0] * square[0], above[1] * square[1])
+        if is_less(share, trial):
+            number = number + 1
+            above = trial
+    return number + 1
+
+
+def total_of(numbers):
+    """The sum of a list of fractions, neither they nor it in lowest terms.
+
+    By halves, as a sum one by one would be a great number from early on.
+    """
+    if len(numbers) == 1:
+        return numbers[0]
+    half = len(numbers) // 2
+    one = total_of(numbers[:half])
+    other = total_of(numbers[half:])
+    return (one[0] * other[1] + other[0] * one[1], one[1] * other[1])

@@ -1,7 +1,9 @@
 """Cuts, rounds and spots far ahead, and two starts of one SETTING."""
 
 from sawrounds.errors import BadParameter
-from sawrounds.exact import difference_of, fraction_power, is_less, product_of, quotient_of, sum_of
+from sawrounds.exact import (
+    difference_of, fraction_power, is_less, least_power, product_of, quotient_of, sum_of,
+)
 from sawrounds.fractions import MOST, need_number
 from sawrounds.means import mean_found, mean_of_setting
 from sawrounds.points import phase_found, points_found
@@ -67,23 +69,6 @@ def spot_after(part, height, spot, rounds):
     points, phase, way = way_to_point(part, height, mean, spot)
     point = points[(phase + rounds) % mean[1]]
     return sum_of(point, product_of(fraction_power(part, rounds), way))
-
-
-def least_power(part, share):
-    """The least number N such that PART ** N is at most share, which is below 1."""
-    squares = [part]
-    while is_less(share, squares[-1]):
-        squares.append(fraction_power(squares[-1], 2))
-    # The greatest number with a greater power, its binary digits one by one.
-    number = 0
-    above = (1, 1)
-    for square in reversed(squares[:-1]):
-        number = 2 * number
-        trial = (above[0] * square[0], above[1] * square[1])
-        if is_less(share, trial):
-            number = number + 1
-            above = trial
-    return number + 1
 
 
 def near_after(part, height, spot, accuracy):

@@ -1,5 +1,7 @@
 """Points to which spots come, arcs of spots that begin alike, and starts."""
 
+from math import gcd
+
 from sawrounds.errors import BadParameter, TooGreat
 from sawrounds.exact import ceil_up, difference_of, is_less, product_of, quotient_of, sum_of
 from sawrounds.fractions import is_same, need_number
@@ -7,22 +9,40 @@ from sawrounds.means import mean_found, mean_of, mean_of_setting
 from sawrounds.rhythms import MOST_BELOW_OF_MEAN, last_phase, ordered_phases, things_of
 from sawrounds.settings import height_of, need_setting, need_start
 from sawrounds.spots import need_cut
-from sawrounds.stretches import high_of
+from sawrounds.stretches import powers_apart, rhythm_sum
 from sawrounds.ticks import first_cut
 
 MOST_PAIRS = 1000
 
 
+def points_over(part, height, mean):
+    """The points by phases as integers over one divisor, and this divisor.
+
+    What is common to the first point and the divisor is taken out: as PART's
+    two integers have nothing in common with the rest of the divisor, only
+    HEIGHT's D can then still have divisors in common with a point.
+    """
+    above, below = part
+    apart = powers_apart(part, mean[1])
+    # The high end of the stretch is where the point of the phase 0 is 0.
+    place = height[1] * rhythm_sum(part, mean) - height[0] * (apart // (below - above))
+    common = gcd(place, apart)
+    place = place // common
+    apart = apart // common
+    places = []
+    for ticks in things_of(mean):
+        places.append(below * place)
+        place = (above * place + (ticks * height[1] - height[0]) * apart) // below
+    return (places, height[1] * apart)
+
+
 def points_found(part, height, mean):
     """The points by phases; all was checked, and the mean is the height's."""
-    rest = difference_of((1, 1), part)
-    # The high end of the stretch is where the point of the phase 0 is 0.
-    point = quotient_of(difference_of(high_of(part, mean), height), rest)
+    places, divisor = points_over(part, height, mean)
     points = []
-    for ticks in things_of(mean):
-        points.append(point)
-        lack = difference_of(height, product_of(part, point))
-        point = difference_of((ticks, 1), lack)
+    for place in places:
+        common = gcd(place, height[1])
+        points.append((place // common, divisor // common))
     return tuple(points)
 
 

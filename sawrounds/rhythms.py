@@ -25,14 +25,19 @@ def need_mean(mean):
     return mean
 
 
-def need_rounds(rounds):
-    """rounds, if they are ROUNDS."""
-    if type(rounds) != tuple or len(rounds) > MOST_ROUNDS:
+def need_row(rounds, least, most):
+    """rounds, if they are a tuple of least to most integers from 1 to 10 ** 30."""
+    if type(rounds) != tuple or not least <= len(rounds) <= most:
         raise BadRounds(())
     for at, ticks in enumerate(rounds):
         if not is_integer(ticks) or not 1 <= ticks <= MOST:
             raise BadRounds((at,))
     return rounds
+
+
+def need_rounds(rounds):
+    """rounds, if they are ROUNDS."""
+    return need_row(rounds, 0, MOST_ROUNDS)
 
 
 def ticks_up_to(mean, number):

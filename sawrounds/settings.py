@@ -41,6 +41,12 @@ def level_cut(part, keep, level):
     return sum_of(product_of(part, level), keep)
 
 
+def is_cut_within(setting):
+    """Whether each cut leads to LIMIT at most, of four numbers of any size."""
+    limit, step, part, keep = setting
+    return not is_less(limit, level_cut(part, keep, sum_of(limit, step)))
+
+
 def need_setting(setting):
     """setting, if it is a SETTING."""
     if type(setting) != tuple or len(setting) != 4:
@@ -54,7 +60,7 @@ def need_setting(setting):
         raise BadSetting((2,))
     if not is_fraction(keep):
         raise BadSetting((3,))
-    if is_less(limit, level_cut(part, keep, sum_of(limit, step))):
+    if not is_cut_within(setting):
         raise BadSetting(())
     return setting
 

@@ -2,26 +2,32 @@
 
 from math import gcd
 
-from sawrounds.exact import is_less, power, reduced
+from sawrounds.exact import is_less, power, reduced, total_of
 from sawrounds.fractions import need_number
 from sawrounds.rhythms import MOST_BELOW_OF_MEAN, need_mean, things_of
 from sawrounds.settings import need_height, need_part
 
 
-def rhythm_sum(part, mean):
-    """The rhythm's things added up, each by its own powers of PART's integers.
+def weighed_sum(above, below, things):
+    """The things K_0, .., K_(Q - 1) added up, each by its own powers.
 
-    With PART being a / b and the things K_0, .., K_(Q - 1) it is the sum of
-    a ** (Q - 1 - J) * b ** J * K_J; the floors of promise 19 differ one by one
-    by the things told backwards, so that no sum without end is needed.
+    It is the sum of above ** (Q - 1 - J) * below ** J * K_J.
     """
-    above, below = part
     total = 0
     weight = 1
-    for ticks in things_of(mean):
+    for ticks in things:
         total = total * above + ticks * weight
         weight = weight * below
     return total
+
+
+def rhythm_sum(part, mean):
+    """The rhythm's things added up, each by its own powers of PART's integers.
+
+    The floors of promise 19 differ one by one by the things told backwards,
+    so that no sum without end is needed.
+    """
+    return weighed_sum(part[0], part[1], things_of(mean))
 
 
 def powers_apart(part, number):
@@ -46,19 +52,6 @@ def lengths_of(part, below):
     many = len([above for above in range(1, below + 1) if gcd(above, below) == 1])
     length = length_of(part, below)
     return (many * length[0], length[1])
-
-
-def total_of(numbers):
-    """The sum of a list of fractions, neither they nor it in lowest terms.
-
-    By halves, as a sum one by one would be a great number from early on.
-    """
-    if len(numbers) == 1:
-        return numbers[0]
-    half = len(numbers) // 2
-    one = total_of(numbers[:half])
-    other = total_of(numbers[half:])
-    return (one[0] * other[1] + other[0] * one[1], one[1] * other[1])
 
 
 def ends_of(part, mean):

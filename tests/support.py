@@ -5,7 +5,7 @@ import math
 from fractions import Fraction
 from unittest.mock import Mock
 
-from sawrounds.errors import BadParameter, BadRounds, BadSetting, TooGreat
+from sawrounds.errors import BadParameter, BadRounds, BadSenders, BadSetting, NoHeight, TooGreat
 
 MOST = 10 ** 30
 
@@ -132,22 +132,25 @@ def wrong_settings():
     return found
 
 
-def wrong_rounds():
-    """Wrong ROUNDS, each with the error that it is refused with."""
+def wrong_rounds(most=300):
+    """Wrong ROUNDS of so many things at most, each with the error that it is refused with."""
     wholes = [
         None, True, 0, 3, 1.5, "", "34", b"34", [], [3, 4], {}, {3: 4}, {3, 4}, range(3), iter(()), object(), Odd(),
-        (3,) * 301, (3,) * 1000, (None,) * 301, Mock(spec=tuple), tuple,
+        (3,) * (most + 1), (3,) * 1000, (None,) * (most + 1), Mock(spec=tuple), tuple,
     ]
     found = [(wrong, BadRounds, ()) for wrong in wholes]
     for wrong in NO_INTEGERS + [0, -1, -3, MOST + 1, 10 ** 5000, -MOST, (3,), ()]:
         found.append(((wrong,), BadRounds, (0,)))
         found.append(((3, wrong, 4), BadRounds, (1,)))
         found.append(((3, 4, 4, wrong, None), BadRounds, (3,)))
-        found.append(((3,) * 299 + (wrong,), BadRounds, (299,)))
+        found.append(((3,) * (most - 1) + (wrong,), BadRounds, (most - 1,)))
     return found
 
 
-ATTRIBUTES = {BadParameter: "value", BadSetting: "place", BadRounds: "place", TooGreat: "most"}
+ATTRIBUTES = {
+    BadParameter: "value", BadSetting: "place", BadRounds: "place", BadSenders: "place", NoHeight: "paper",
+    TooGreat: "most",
+}
 
 
 def check_error(case, kind, told, function, /, *given, **named):
@@ -160,6 +163,38 @@ def check_error(case, kind, told, function, /, *given, **named):
         case.assertIs(value, told)
     else:
         check(case, value, told)
+
+
+def wrong_senders(right):
+    """Wrong SENDERS where right are such, each with the error that it is refused with."""
+    wholes = [
+        None, True, 0, 2, 1.5, "", "12", b"12", [], list(right), {}, set(right), (), right * 9, ((1, 1),) * 9,
+        (None,) * 9, object(), Odd(), Mock(spec=tuple), tuple,
+        # Not STEP together.
+        right + ((1, MOST),), right + right[:1], right[1:], right[:1] + ((MOST, 1),), ((1, 7),) * 8,
+    ]
+    found = [(wrong, BadSenders, ()) for wrong in wholes]
+    for wrong in NO_STEPS:
+        found.append(((wrong,), BadSenders, (0,)))
+        found.append(((right[0], wrong), BadSenders, (1,)))
+        found.append((((1, 8),) * 7 + (wrong,), BadSenders, (7,)))
+        found.append((((1, 8), (2, 7), wrong, None), BadSenders, (2,)))
+    return found
+
+
+def plain_senders(setting, senders, levels, ticks):
+    """The pairs (levels, whether they were cut) behind each tick, plainly."""
+    limit, step, part, keep = map(number, setting)
+    steps = [number(one) for one in senders]
+    now = [number(one) for one in levels]
+    found = []
+    for _ in range(ticks):
+        now = [level + rise for level, rise in zip(now, steps)]
+        is_cut = sum(now) > limit
+        if is_cut:
+            now = [part * level + rise / step * keep for level, rise in zip(now, steps)]
+        found.append((now, is_cut))
+    return found
 
 
 def check_too_great(case, most, function, /, *given, **named):

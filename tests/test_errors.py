@@ -3,7 +3,9 @@
 import inspect
 import unittest
 
-from sawrounds import errors, far, fractions, means, points, rhythms, settings, spots, stretches, ticks
+from sawrounds import (
+    averages, errors, far, fractions, joining, means, points, rhythms, seen, senders, settings, spots, stretches, ticks,
+)
 from tests.support import Odd
 
 ATTRIBUTES = {
@@ -104,6 +106,37 @@ FUNCTIONS = {
         "near_after": ["part", "height", "spot", "accuracy"],
         "together": ["setting", "start", "other"],
         "tick_gap": ["setting", "start", "other"],
+    },
+    senders: {
+        "need_senders": ["setting", "senders"],
+        "shares_of": ["setting", "senders"],
+        "levels_of": ["setting", "senders", "levels", "cuts"],
+        "levels_ticked": ["setting", "senders", "levels", "ticks"],
+        "deviations": ["setting", "senders", "levels"],
+        "even_from": ["setting", "senders", "levels", "within"],
+        "even_ticks": ["setting", "senders", "levels", "within"],
+    },
+    joining: {
+        "with_sender": ["setting", "senders", "levels", "step", "level"],
+        "without_sender": ["setting", "senders", "levels", "number"],
+    },
+    averages: {
+        "point_levels": ["setting"],
+        "mean_level": ["setting"],
+        "level_range": ["setting"],
+        "waste": ["setting"],
+        "ticks_above": ["setting", "level"],
+        "sum_within": ["setting", "start", "ticks"],
+        "excess": ["setting", "start"],
+    },
+    seen: {
+        "need_seen": ["rounds"],
+        "means_seen": ["rounds"],
+        "heights_seen": ["part", "rounds"],
+        "is_seen": ["part", "height", "rounds"],
+        "spots_seen": ["part", "height", "rounds"],
+        "is_seen_paper": ["rounds", "value"],
+        "next_seen": ["rounds"],
     },
 }
 
