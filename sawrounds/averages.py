@@ -39,10 +39,11 @@ def mean_level(setting):
     mean = mean_of_setting(setting)
     things = things_of(mean)
     places, divisor = points_over(setting[2], height_of(setting), mean)
-    # A level is that behind a cut with the spot 0, and so many STEPs more.
-    steps = product_of(setting[2], reduced(sum([place * ticks for place, ticks in zip(places, things)]), divisor))
-    steps = sum_of(steps, (sum([ticks * (ticks - 1) // 2 for ticks in things]), 1))
-    return sum_of(level_behind(setting, (0, 1)), product_of(setting[1], quotient_of(steps, (mean[0], 1))))
+    spots = reduced(sum([place * ticks for place, ticks in zip(places, things)]), divisor)
+    ticks_further = sum([ticks * (ticks - 1) // 2 for ticks in things])
+    # A level is the one behind a cut with the spot 0, and so many STEPs more.
+    steps = quotient_of(sum_of(product_of(setting[2], spots), (ticks_further, 1)), (mean[0], 1))
+    return sum_of(level_behind(setting, (0, 1)), product_of(setting[1], steps))
 
 
 def level_range(setting):
@@ -98,5 +99,5 @@ def excess(setting, start):
     rhythm = things_of(mean)
     things = rhythm[phase:] + rhythm[:phase]
     # Rounds further on weigh less, so that PART's integers change places.
-    times = (part[0] * weighed_sum(part[1], part[0], things), powers_apart(part, mean[1]))
-    return product_of(product_of(step, way), times)
+    total = part[0] * weighed_sum(part[1], part[0], things)
+    return product_of(product_of(step, way), reduced(total, powers_apart(part, mean[1])))

@@ -2,6 +2,8 @@
 
 What is worked out on the way may be greater than what may be handed in, so
 the other files reckon with these functions and not with the checked ones.
+Only `reduced`, `is_less`, `floor_down`, `ceil_up` and `total_of` take
+fractions that are not in lowest terms.
 """
 
 from math import gcd
@@ -16,23 +18,34 @@ def reduced(above, below):
 
 
 def sum_of(one, other):
-    """one and other together."""
-    return reduced(one[0] * other[1] + other[0] * one[1], one[1] * other[1])
+    """one and other together, both in lowest terms."""
+    shared = gcd(one[1], other[1])
+    part = one[1] // shared
+    above = one[0] * (other[1] // shared) + other[0] * part
+    # What both divisors share is all that can still be taken out: where one
+    # of them is small, no divisor of two great numbers is looked for.
+    common = gcd(above, shared)
+    return (above // common, part * (other[1] // common))
 
 
 def difference_of(one, other):
-    """one less other."""
-    return reduced(one[0] * other[1] - other[0] * one[1], one[1] * other[1])
+    """one less other, both in lowest terms."""
+    return sum_of(one, negative_of(other))
 
 
 def product_of(one, other):
-    """one times other."""
-    return reduced(one[0] * other[0], one[1] * other[1])
+    """one times other, both in lowest terms."""
+    first = gcd(one[0], other[1])
+    second = gcd(other[0], one[1])
+    return ((one[0] // first) * (other[0] // second), (one[1] // second) * (other[1] // first))
 
 
 def quotient_of(one, other):
-    """one divided by other, which is not nought."""
-    return reduced(one[0] * other[1], one[1] * other[0])
+    """one divided by other, which is not nought, both in lowest terms."""
+    above, below = other
+    if above < 0:
+        above, below = -above, -below
+    return product_of(one, (below, above))
 
 
 def negative_of(one):

@@ -8,7 +8,7 @@ from sawrounds.fractions import is_same, need_number
 from sawrounds.means import mean_found, mean_of, mean_of_setting
 from sawrounds.rhythms import MOST_BELOW_OF_MEAN, last_phase, ordered_phases, things_of
 from sawrounds.settings import height_of, need_setting, need_start
-from sawrounds.spots import need_cut
+from sawrounds.spots import need_cut, rounds_from
 from sawrounds.stretches import powers_apart, rhythm_sum
 from sawrounds.ticks import first_cut
 
@@ -70,9 +70,18 @@ def arcs_found(part, height, mean):
 
 
 def phase_found(part, height, mean, spot):
-    """The phase with which a spot begins; all was checked."""
-    phases = [phase for _, high, phase in arcs_found(part, height, mean) if not is_less(high, spot)]
-    return phases[0]
+    """The phase with which a spot begins; all was checked.
+
+    It is told by its place in order, which is -P times the phase modulo Q:
+    the first M rounds from it on are together ceil((M * P - place) / Q), and
+    so no less than the place is behind some M rounds what is told here.
+    """
+    place = 0
+    ticks = 0
+    for number, more in enumerate(rounds_from(part, height, spot, mean[1] - 1)[0], start=1):
+        ticks = ticks + more
+        place = max(place, number * mean[0] - ticks * mean[1])
+    return -place * last_phase(mean) % mean[1]
 
 
 def points_of(part, height):

@@ -2,7 +2,7 @@
 
 from math import gcd
 
-from sawrounds.exact import is_less, power, reduced, total_of
+from sawrounds.exact import power, reduced, total_of
 from sawrounds.fractions import need_number
 from sawrounds.rhythms import MOST_BELOW_OF_MEAN, need_mean, things_of
 from sawrounds.settings import need_height, need_part
@@ -62,14 +62,38 @@ def ends_of(part, mean):
     return ((part[1] * high[0] - length[0], length[1]), high)
 
 
+def weighed(part, mean):
+    """A mean with what tells its stretch: its rhythm's sum, the powers of PART's integers."""
+    below = mean[1]
+    return (mean[0], below, rhythm_sum(part, mean), power(part[0], below), power(part[1], below))
+
+
+def joined(high, low):
+    """The weighed mean of the rhythm of high and, behind it, that of low.
+
+    Of neighbours this is the mediant's rhythm; so in a search none is summed
+    up anew.
+    """
+    total = high[2] * low[3] + high[4] * low[2]
+    return (high[0] + low[0], high[1] + low[1], total, high[3] * low[3], high[4] * low[4])
+
+
+def order_within(part, mean, low, high):
+    """Of a weighed mean's stretch: 1 if low is above it, -1 if high is below it, else 0."""
+    _, _, total, power_above, power_below = mean
+    rest = part[1] - part[0]
+    # How far a height is above the high end, but for a factor above 0.
+    if low[0] * (power_below - power_above) > low[1] * rest * total:
+        return 1
+    over = high[0] * (power_below - power_above) - high[1] * rest * total
+    if part[0] * part[1] * over < -high[1] * rest * rest * power_above:
+        return -1
+    return 0
+
+
 def order_of(part, mean, height):
     """-1, 0, 1 as the height is below, in or above the stretch of the mean."""
-    low, high = ends_of(part, mean)
-    if is_less(height, low):
-        return -1
-    if is_less(high, height):
-        return 1
-    return 0
+    return order_within(part, weighed(part, mean), height, height)
 
 
 def need_part_and_mean(part, mean):
