@@ -1,6 +1,5 @@
 """Cuts, rounds and spots far ahead, and two starts of one SETTING."""
 
-from sawrounds.errors import BadParameter
 from sawrounds.exact import (
     difference_of, fraction_power, is_less, least_power, product_of, quotient_of, sum_of,
 )
@@ -8,7 +7,7 @@ from sawrounds.fractions import MOST, need_number
 from sawrounds.means import mean_found, mean_of_setting
 from sawrounds.points import phase_found, points_found
 from sawrounds.rhythms import ticks_up_to
-from sawrounds.settings import height_of, is_above_nought, need_start
+from sawrounds.settings import height_of, need_above_nought, need_start
 from sawrounds.spots import need_cut
 from sawrounds.ticks import first_cut
 
@@ -74,8 +73,7 @@ def spot_after(part, height, spot, rounds):
 def near_after(part, height, spot, accuracy):
     """The least number of rounds behind which the spot stays so near its points."""
     need_cut(part, height, spot)
-    if not is_above_nought(accuracy):
-        raise BadParameter(accuracy)
+    need_above_nought(accuracy)
     mean = mean_found(part, height)
     above, below = way_to_point(part, height, mean, spot)[2]
     distance = (abs(above), below)

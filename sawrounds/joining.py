@@ -4,14 +4,13 @@ from sawrounds.errors import BadParameter, BadSetting, TooGreat
 from sawrounds.exact import difference_of, is_less, sum_of
 from sawrounds.fractions import need_fraction, need_number
 from sawrounds.senders import MOST_SENDERS, need_levels, sum_of_all
-from sawrounds.settings import is_above_nought, is_cut_within
+from sawrounds.settings import is_cut_within, need_above_nought
 
 
 def with_sender(setting, senders, levels, step, level):
     """The SETTING, the SENDERS and the LEVELS with one sender more, the last one."""
     need_levels(setting, senders, levels)
-    if not is_above_nought(step):
-        raise BadParameter(step)
+    need_above_nought(step)
     need_fraction(level)
     if len(senders) == MOST_SENDERS:
         raise TooGreat(MOST_SENDERS)

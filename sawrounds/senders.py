@@ -9,7 +9,7 @@ from sawrounds.exact import (
     difference_of, fraction_power, is_less, least_power, product_of, quotient_of, reduced, sum_of, total_of,
 )
 from sawrounds.fractions import is_fraction, need_number
-from sawrounds.settings import height_of, is_above_nought, level_cut, need_setting
+from sawrounds.settings import height_of, is_above_nought, level_cut, need_above_nought, need_setting
 from sawrounds.spots import rounds_from
 from sawrounds.ticks import first_cut, walked
 
@@ -121,8 +121,7 @@ def deviations(setting, senders, levels):
 def even_from(setting, senders, levels, within):
     """The least number of cuts behind which no deviation is greater than within."""
     need_levels(setting, senders, levels)
-    if not is_above_nought(within):
-        raise BadParameter(within)
+    need_above_nought(within)
     greatest = (0, 1)
     for above, below in apart_from(shares_found(setting, senders), levels):
         if is_less(greatest, (abs(above), below)):

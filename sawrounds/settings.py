@@ -22,6 +22,13 @@ def is_spot(value):
     return is_fraction(value) and 0 < value[0] <= value[1]
 
 
+def need_above_nought(value):
+    """value, if it is a FRACTION above 0."""
+    if not is_above_nought(value):
+        raise BadParameter(value)
+    return value
+
+
 def need_part(part):
     """part, if it is a PART."""
     if not is_part(part):
@@ -116,8 +123,7 @@ def moved(setting, by):
 def scaled(setting, by):
     """The SETTING with all levels multiplied by a FRACTION above 0."""
     limit, step, part, keep = need_setting(setting)
-    if not is_above_nought(by):
-        raise BadParameter(by)
+    need_above_nought(by)
     return (product_of(limit, by), product_of(step, by), part, product_of(keep, by))
 
 

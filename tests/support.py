@@ -5,7 +5,9 @@ import math
 from fractions import Fraction
 from unittest.mock import Mock
 
-from sawrounds.errors import BadParameter, BadRounds, BadSenders, BadSetting, NoHeight, TooGreat
+from sawrounds.errors import (
+    BadDeed, BadParameter, BadRounds, BadSenders, BadSetting, BadText, NoHeight, NoMean, NoRow, TooGreat,
+)
 
 MOST = 10 ** 30
 
@@ -148,21 +150,26 @@ def wrong_rounds(most=300):
 
 
 ATTRIBUTES = {
-    BadParameter: "value", BadSetting: "place", BadRounds: "place", BadSenders: "place", NoHeight: "paper",
-    TooGreat: "most",
+    BadParameter: ["value"], BadSetting: ["place"], BadRounds: ["place"], BadSenders: ["place"], BadDeed: ["place"],
+    NoHeight: ["paper"], TooGreat: ["most"], BadText: ["line", "word"], NoRow: [], NoMean: [],
 }
 
 
 def check_error(case, kind, told, function, /, *given, **named):
-    """Fails unless just this error is raised, with just this attribute."""
+    """Fails unless just this error is raised, with just this attribute.
+
+    Of an error with another number of attributes told is the tuple of them.
+    """
     with case.assertRaises(ValueError) as held:
         function(*given, **named)
     case.assertIs(type(held.exception), kind)
-    value = getattr(held.exception, ATTRIBUTES[kind])
+    values = tuple(getattr(held.exception, name) for name in ATTRIBUTES[kind])
     if kind is BadParameter:
-        case.assertIs(value, told)
+        case.assertIs(values[0], told)
+    elif len(values) == 1:
+        check(case, values[0], told)
     else:
-        check(case, value, told)
+        check(case, values, told)
 
 
 def wrong_senders(right):

@@ -4,7 +4,8 @@ import inspect
 import unittest
 
 from sawrounds import (
-    averages, errors, far, fractions, joining, means, points, rhythms, seen, senders, settings, spots, stretches, ticks,
+    averages, errors, far, fractions, joining, means, points, rhythms, seen, senders, sessions, settings, spots,
+    stretches, texts, ticks, wanted, wording,
 )
 from tests.support import Odd
 
@@ -137,6 +138,31 @@ FUNCTIONS = {
         "spots_seen": ["part", "height", "rounds"],
         "is_seen_paper": ["rounds", "value"],
         "next_seen": ["rounds"],
+    },
+    wanted: {
+        "limits_for": ["mean", "step", "part", "keep"],
+        "steps_for": ["mean", "limit", "part", "keep"],
+        "keeps_for": ["mean", "limit", "step", "part"],
+        "simplest_between": ["part", "low", "high"],
+        "means_between": ["part", "low", "high", "most"],
+        "safe_for": ["part", "height"],
+    },
+    wording: {},
+    texts: {
+        "report_of": ["setting", "start"],
+        "need_report": ["report"],
+        "setting_text": ["setting"],
+        "read_setting": ["text"],
+        "rounds_text": ["rounds"],
+        "read_rounds": ["text"],
+        "report_text": ["report"],
+        "read_report": ["text"],
+    },
+    sessions: {
+        "begun": ["setting", "start"],
+        "need_state": ["state"],
+        "session_step": ["state", "deed"],
+        "played": ["setting", "start", "deeds"],
     },
 }
 
