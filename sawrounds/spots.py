@@ -1,7 +1,7 @@
 """Spots of cuts and the rounds between them, told by PART and HEIGHT alone."""
 
 from sawrounds.errors import BadParameter
-from sawrounds.exact import reduced
+from sawrounds.exact import product_of, reduced, sum_of
 from sawrounds.fractions import need_number
 from sawrounds.settings import is_spot, need_height, need_part
 
@@ -57,8 +57,12 @@ def spots_after(part, height, spot, count):
     """The numbers of so many rounds, and the spots of the cuts at their ends."""
     need_cut(part, height, spot)
     need_number(count, 0, MOST_COUNT)
-    rounds, spots = rounds_from(part, height, spot, count)
-    return (tuple(rounds), tuple([reduced(above, below) for above, below in spots]))
+    rounds = rounds_from(part, height, spot, count)[0]
+    spots = []
+    for ticks in rounds:
+        spot = sum_of(product_of(part, spot), reduced(ticks * height[1] - height[0], height[1]))
+        spots.append(spot)
+    return (tuple(rounds), tuple(spots))
 
 
 def counts_after(part, height, spot, count):

@@ -52,9 +52,8 @@ def first_cut(setting, start):
     return (ticks, (ticks * way[1] - way[0], way[1]))
 
 
-def tick(setting, level):
-    """The level behind one tick, and whether it was cut."""
-    need_start(setting, level)
+def ticked(setting, level):
+    """The level behind one tick, and whether it was cut; all was checked."""
     limit, step, part, keep = setting
     risen = sum_of(level, step)
     if is_less(limit, risen):
@@ -62,10 +61,21 @@ def tick(setting, level):
     return (risen, False)
 
 
+def tick(setting, level):
+    """The level behind one tick, and whether it was cut."""
+    need_start(setting, level)
+    return ticked(setting, level)
+
+
 def levels_after(setting, start, ticks):
     """The levels behind each of so many ticks."""
     need_walk(setting, start, ticks)
-    return tuple([reduced(level[0], level[1]) for level, _ in walked(setting, start, ticks)])
+    level = start
+    levels = []
+    for _ in range(ticks):
+        level = ticked(setting, level)[0]
+        levels.append(level)
+    return tuple(levels)
 
 
 def first_ticks(setting, start):
@@ -96,13 +106,15 @@ def highest_and_lowest(setting, start, ticks):
     levels = [level for level, _ in walked(setting, start, ticks)]
     if not levels:
         return (start, start)
-    highest = lowest = levels[0]
-    for level in levels:
-        if is_less(highest, level):
-            highest = level
-        if is_less(level, lowest):
-            lowest = level
-    return (reduced(highest[0], highest[1]), reduced(lowest[0], lowest[1]))
+    highest, divisor = levels[0]
+    lowest = highest
+    for above, below in levels:
+        # Each divisor is the one ahead of it or a multiple of it.
+        times = below // divisor
+        divisor = below
+        highest = max(highest * times, above)
+        lowest = min(lowest * times, above)
+    return (reduced(highest, divisor), reduced(lowest, divisor))
 
 
 def highest_behind(setting, start, ticks):
