@@ -73,8 +73,9 @@ def phase_found(part, height, mean, spot):
     """The phase with which a spot begins; all was checked.
 
     It is told by its place in order, which is -P times the phase modulo Q:
-    the first M rounds from it on are together ceil((M * P - place) / Q), and
-    so no less than the place is behind some M rounds what is told here.
+    the first M rounds from it on are together ceil((M * P - place) / Q). So
+    M * P less Q times these rounds is nowhere above the place, and for one M
+    below Q it is the place.
     """
     place = 0
     ticks = 0
